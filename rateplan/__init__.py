@@ -1,0 +1,1 @@
+"""Rateplan: talks fetched by stretches, at rates that suit the road."""
