@@ -7,6 +7,11 @@ def is_whole(thing):
     return isinstance(thing, int) and not isinstance(thing, bool)
 
 
+def is_rate(talk, thing):
+    """Tell whether the thing is the number of a rate of the talk."""
+    return is_whole(thing) and 0 <= thing < talk.many_rates()
+
+
 def written_whole(word, most):
     """Tell the number from 1 to most that the word writes, 0 where it writes none."""
     # isdigit alone holds for figures of other scripts, too.
