@@ -31,8 +31,9 @@ def behind_beat(talk, stand, speed, begin, again, most):
     got += 1 if got < 0 else speed
     if got < talk.sizes[fetched][coming]:
         return (fetched, coming, got, kept, played, going)
-    # A stretch that becomes whole in this beat is kept behind all else, so none of it was played here.
-    return (fetched + 1, -1, 0, kept + talk.lengths[fetched], played, going)
+    # What becomes whole in this beat is kept behind all else, so none of it was played here. A player may have
+    # sought a beat within it: then just what is not ahead of the beat played next is kept.
+    return (fetched + 1, -1, 0, sum(talk.lengths[:fetched + 1]) - played, played, going)
 
 
 def _play_begins(talk, stand, begin, again, most):

@@ -29,16 +29,17 @@ def run_of(talk, road, chooser, *, begin=BEGIN, again=AGAIN, most=MOST, wait=0, 
     check_room(talk, most)
     track = Track(talk, chooser, begin, again, most, wait)
     while not track.is_over():
-        if track.is_due() and _is_there(opens, track.stand[0], track.beat):
+        beat = track.gone_by()
+        if track.is_due() and _is_there(opens, track.stand_now()[0], beat):
             track.choose()
-        track.go(road.speed_at(track.beat))
+        track.go(road.speed_at(beat))
     return Run(
         tuple(track.rates),
         tuple(track.begun),
         tuple(track.whole),
         tuple(track.plays),
         tuple(track.stalls),
-        track.beat,
+        track.gone_by(),
         tuple(track.kept),
     )
 

@@ -1,12 +1,11 @@
 """Tracks: a talk on its way by a chooser, and what came to pass in it beat by beat."""
 
 from rateplan.beats import behind_beat, is_asking, is_ended
-from rateplan.choosers import rate_of
-from rateplan.stands import chosen, first_stand
+from rateplan.states import behind_choice, first_state, led_to, told_rate
 
 
 class Track:
-    """A talk on its way: its stand, the number of the beat that comes next, and the tale of the beats till then."""
+    """A talk on its way: its state, how many beats went by, and the tale of these beats."""
 
     def __init__(self, talk, chooser, begin, again, most, wait):
         self.talk = talk
@@ -15,8 +14,7 @@ class Track:
         self.again = again
         self.most = most
         self.wait = wait
-        self.stand = first_stand()
-        self.beat = 0
+        self.state = first_state()
         self.rates = []
         self.begun = []
         self.whole = []
@@ -24,49 +22,60 @@ class Track:
         self.stalls = []
         self.kept = []
 
+    def stand_now(self):
+        """Tell the stand."""
+        return self.state[0]
+
+    def gone_by(self):
+        """Tell how many beats went by, so the number of the one that comes next."""
+        return len(self.kept)
+
     def is_over(self):
         """Tell whether the talk is ended."""
-        return is_ended(self.talk, self.stand)
+        return is_ended(self.talk, self.stand_now())
 
     def is_due(self):
         """Tell whether a rate has to be chosen."""
-        return is_asking(self.talk, self.stand, self.most)
+        return is_asking(self.talk, self.stand_now(), self.most)
+
+    def is_stalled(self):
+        """Tell whether the last beat was one of a stall."""
+        return self.stand_now()[5] == 2
 
     def choose(self):
         """Have the chooser choose a rate for the stretch that comes next."""
-        number = len(self.rates)
-        rate = rate_of(self.talk, self.chooser, number, self.stand[3], self._last_rate(), self._last_fetch())
+        rate = told_rate(self.talk, self.chooser, self.state)
         self.rates.append(rate)
-        self.begun.append(self.beat)
-        self.stand = chosen(self.stand, rate, wait=self.wait)
+        self.begun.append(self.gone_by())
+        self.state = behind_choice(self.state, rate, self.wait)
 
     def go(self, speed):
         """Let a beat of a speed go by."""
-        ahead = self.stand
-        self.stand = behind_beat(self.talk, ahead, speed, self.begin, self.again, self.most)
-        fetched, _, _, kept, played, going = self.stand
-        if played > ahead[4]:
-            self.plays.append(self.beat)
-        if going == 2:
-            self._stall()
-        self.kept.append(kept)
-        self.beat += 1
-        if fetched > ahead[0]:
-            self.whole.append(self.beat)
+        self._go_to(behind_beat(self.talk, self.stand_now(), speed, self.begin, self.again, self.most))
 
-    def _last_rate(self):
-        return self.rates[-1] if self.rates else None
+    def go_beside(self, other):
+        """Let the beat go by that the other track has just gone, playing as that did; here nothing is coming."""
+        fetched, coming, got, kept, played, _ = self.stand_now()
+        _, _, _, _, played_there, going = other.stand_now()
+        self._go_to((fetched, coming, got, kept + played - played_there, played_there, going))
 
-    def _last_fetch(self):
-        if not self.rates:
-            return None
-        last = len(self.rates) - 1
-        return (self.talk.sizes[last][self.rates[last]], self.whole[last] - self.begun[last])
+    def _go_to(self, stand):
+        """Note the beat that leads to a stand."""
+        beat = self.gone_by()
+        fetched, _, _, _, played, _ = self.stand_now()
+        self.state = led_to(self.talk, self.state, stand)
+        if stand[4] > played:
+            self.plays.append(beat)
+        if self.is_stalled():
+            self._stall(beat)
+        self.kept.append(stand[3])
+        if stand[0] > fetched:
+            self.whole.append(beat + 1)
 
-    def _stall(self):
+    def _stall(self, beat):
         """Note the beat as one of a stall, of the last one where that goes on."""
-        if self.stalls and sum(self.stalls[-1]) == self.beat:
+        if self.stalls and sum(self.stalls[-1]) == beat:
             first, many = self.stalls[-1]
             self.stalls[-1] = (first, many + 1)
         else:
-            self.stalls.append((self.beat, 1))
+            self.stalls.append((beat, 1))

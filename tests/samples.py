@@ -35,3 +35,14 @@ def things_of_any_kind():
         {}, {0: 0}, {"lengths": (1,), "sizes": ((1,),)}, {(1, 2): [3]},
         Talk((1,), ((1,),)), Talk((4, 2), ((10, 25), (6, 12))),
     ]
+
+
+def changed_parts(thing):
+    """The thing with each of its parts, those of parts too, in turn of another kind, left out, or twice."""
+    if type(thing) is int:
+        return [True, False, None, "", str(thing), (thing,), [thing], {}]
+    told = [list(thing), thing + (0,), (thing,), None]
+    for at, part in enumerate(thing):
+        told.append(thing[:at] + thing[at + 1:])
+        told += [thing[:at] + (other,) + thing[at + 1:] for other in changed_parts(part)]
+    return told

@@ -11,7 +11,7 @@ from rateplan.errors import NoRoom
 from rateplan.roads import Road
 from rateplan.talks import Talk
 from tests.papers import Case, paper_of, some_cases
-from tests.samples import things_of_any_kind
+from tests.samples import changed_parts, things_of_any_kind
 
 
 def a_case(**named):
@@ -326,17 +326,6 @@ class NoRoomTest(unittest.TestCase):
         paper = best_plan(talk, Road(((1, 1),)), terms, most=4)[1]
         self.assertEqual(shown_worth(talk, Road(((1, 1),)), terms, paper, most=4), 12)
         self.assertIsNone(shown_worth(talk, Road(((1, 1),)), terms, None, most=4))
-
-
-def changed_parts(thing):
-    """The thing with each of its parts, those of parts too, in turn of another kind, left out, or twice."""
-    if type(thing) is int:
-        return [True, False, None, "", str(thing), (thing,), [thing], {}]
-    told = [list(thing), thing + (0,), (thing,), None]
-    for at, part in enumerate(thing):
-        told.append(thing[:at] + thing[at + 1:])
-        told += [thing[:at] + (other,) + thing[at + 1:] for other in changed_parts(part)]
-    return told
 
 
 if __name__ == "__main__":

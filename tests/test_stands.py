@@ -10,29 +10,13 @@ from rateplan.roads import Road
 from rateplan.runs import run_of
 from rateplan.stands import asks, chosen, first_stand, gone, is_stand
 from rateplan.talks import Talk
+from tests.machines import is_right_stand
 from tests.samples import things_of_any_kind
 from tests.walks import Walk, some_talk, some_walks
 
 
 def small():
     return Talk((4, 2, 3), ((10, 25), (6, 12), (8, 9)))
-
-
-def is_right(talk, thing, most, wait):
-    """Whether a thing is a right stand, in the document's words."""
-    if type(thing) is not tuple or [type(part) for part in thing] != [int] * 6:
-        return False
-    fetched, coming, got, kept, played, going = thing
-    if fetched not in range(len(talk.lengths) + 1) or kept not in range(most + 1) or played < 0:
-        return False
-    if kept + played != sum(talk.lengths[:fetched]):
-        return False
-    if coming == -1:
-        right = got == 0
-    else:
-        right = (fetched < len(talk.lengths) and coming in range(len(talk.sizes[0]))
-                 and got in range(-wait, talk.sizes[fetched][coming]))
-    return right and going in ((0,) if played == 0 else (1, 2))
 
 
 def stands_of_walks(seed, many):
@@ -103,7 +87,7 @@ class IsStandTest(unittest.TestCase):
         numbers = [range(-1, 4), range(-2, 3), range(-2, 4), range(-1, 4), range(-1, 5), range(-1, 4)]
         for most, wait in ((2, 0), (3, 1), (30, 0)):
             for thing in itertools.product(*numbers):
-                self.assertIs(is_stand(talk, thing, most=most, wait=wait), is_right(talk, thing, most, wait))
+                self.assertIs(is_stand(talk, thing, most=most, wait=wait), is_right_stand(talk, thing, most, wait))
 
     def test_stands_of_walks_and_each_one_changed_a_little(self):
         for talk, _, _, options, walk in stands_of_walks(21, 30):
@@ -113,7 +97,7 @@ class IsStandTest(unittest.TestCase):
                 for at in range(6):
                     for part in (stand[at] - 1, stand[at] + 1, -stand[at] - 1):
                         thing = stand[:at] + (part,) + stand[at + 1:]
-                        self.assert_stand(is_right(talk, thing, **named), talk, thing, **named)
+                        self.assert_stand(is_right_stand(talk, thing, **named), talk, thing, **named)
 
     def test_parts_that_are_no_numbers(self):
         for stand in ((0, -1, 0, 0, 0, 0), (1, 1, 1, 3, 1, 1), (3, -1, 0, 9, 0, 0)):
