@@ -128,6 +128,18 @@ class RightPapersTest(ChecksTest):
                 if "stall" in [guard.led(watch, speed) for speed in guard.kind[:2]]:
                     self.assert_paper(False, guard, paper_of({*paper, watch}))
 
+    def test_a_beat_of_a_stall_that_leads_to_what_is_there(self):
+        talk = Talk((3, 2), ((4,), (3,)))
+        guard = Guard(talk, (0, 0), (3, 9, 0, 2), {"begin": 3, "again": 2})
+        paper = guard.told()[1]
+        behind = ((2, -1, 0, 2, 3, 2), 0, (3, 1), 0, (0,))
+        self.assert_paper(True, guard, paper_of({*paper, *guard.closed([behind])}))
+        for going in (1, 2):
+            # What is coming is whole behind this beat, and all is played from there on; but in this beat nothing is.
+            watch = ((1, 0, 2, 0, 3, going), 0, (4, 2), 0, (0,))
+            self.assertEqual(guard.led(watch, 9), "stall")
+            self.assert_paper(False, guard, paper_of({*paper, watch, *guard.closed([behind])}))
+
     def test_what_slow_leads_to_is_not_asked_where_it_is_not_let(self):
         talk = Talk((2,), ((9,),))
         guard = Guard(talk, (0,), (1, 5, 1, 2), {})
@@ -209,6 +221,7 @@ class WrongPapersTest(ChecksTest):
             ((3, -1, 0, 1, 8, 1), 0, (8, 3, 1), 0, (0, 0)),
             ((3, -1, 0, 1, 8, 1), 0, (8, 3), 1, (0, 0)),         # gone, but nothing is coming
             ((2, 0, 7, 1, 5, 1), 0, (8, 3), -1, (0, 0)),
+            ((2, 0, -2, 5, 1, 1), 0, (8, 3), -1, (0, 0)),
             ((3, -1, 0, 1, 8, 1), 0, (8, 3), 0, (0,)),           # past is too short, too long, of too many slow ones
             ((3, -1, 0, 1, 8, 1), 0, (8, 3), 0, (0, 0, 0)),
             ((3, -1, 0, 1, 8, 1), 0, (8, 3), 0, (1, 1)),
