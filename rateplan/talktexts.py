@@ -3,7 +3,7 @@
 from rateplan.bounds import MOST_BEATS, MOST_BITS, MOST_RATES, MOST_STRETCHES
 from rateplan.errors import NoText
 from rateplan.talks import Talk
-from rateplan.wholes import written_whole
+from rateplan.wholes import written_number
 
 
 def show_talk(talk):
@@ -21,7 +21,7 @@ def read_talk(text):
         raise NoText(0)
     lines = text.split("\n")
     rates = _read_rates(lines[0])
-    if rates == 0:
+    if not rates:
         raise NoText(0)
     if len(lines) == 1:
         raise NoText(1)
@@ -37,11 +37,11 @@ def read_talk(text):
 
 
 def _read_rates(line):
-    """Tell how many rates the first line tells, 0 where it is none such."""
+    """Tell how many rates the first line tells, 0 or None where it is none such."""
     words = line.split(" ")
     if len(words) != 2 or words[0] != "rates":
-        return 0
-    return written_whole(words[1], MOST_RATES)
+        return None
+    return written_number(words[1], MOST_RATES)
 
 
 def _read_stretch(line, rates):
@@ -50,8 +50,8 @@ def _read_stretch(line, rates):
     words = line.split(" ")
     if len(words) != rates + 2 or words[1] != ":":
         return None
-    beats = written_whole(words[0], MOST_BEATS)
-    bits = [written_whole(word, MOST_BITS) for word in words[2:]]
-    if beats == 0 or 0 in bits:
+    beats = written_number(words[0], MOST_BEATS)
+    bits = [written_number(word, MOST_BITS) for word in words[2:]]
+    if not beats or not all(bits):
         return None
     return (beats, *bits)

@@ -50,9 +50,9 @@ class Watches:
             return (stalls, None)
         if is_asking(self.talk, stand, self.most):
             state = self._behind_asking(state)
-        mark = 1 if speed == self.slow else 0
-        # Put behind before one is cut off ahead, so that none at all stay none at all.
-        return (stalls, (*state, (*past, mark)[1:]))
+        # One is put behind ahead of one being cut off, so that none at all stay none at all.
+        marks = (*past, 1 if speed == self.slow else 0)
+        return (stalls, (*state, marks[1:]))
 
     def _behind_asking(self, state):
         return behind_choice(state, told_rate(self.talk, self.chooser, state), self.wait)

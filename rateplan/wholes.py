@@ -7,17 +7,30 @@ def is_whole(thing):
     return isinstance(thing, int) and not isinstance(thing, bool)
 
 
+def is_within(thing, least, most):
+    """Tell whether the thing is a whole number from least to most."""
+    return is_whole(thing) and least <= thing <= most
+
+
+def is_count(thing):
+    """Tell whether the thing is a whole number from 0 on."""
+    return is_whole(thing) and thing >= 0
+
+
 def is_rate(talk, thing):
     """Tell whether the thing is the number of a rate of the talk."""
-    return is_whole(thing) and 0 <= thing < talk.many_rates()
+    return is_count(thing) and thing < talk.many_rates()
 
 
-def written_whole(word, most):
-    """Tell the number from 1 to most that the word writes, 0 where it writes none."""
+def is_written(word):
+    """Tell whether the word writes a whole number from 0 on, in figures without noughts ahead."""
     # isdigit alone holds for figures of other scripts, too.
-    if not word.isascii() or not word.isdigit() or word[0] == "0":
-        return 0
+    return word.isascii() and word.isdigit() and (word == "0" or word[0] != "0")
+
+
+def written_number(word, most):
+    """Tell the number from 0 to most that the word writes, None where it writes none such."""
     # Python reads no number of very many figures, so such a word is not tried.
-    if len(word) > len(str(most)) or int(word) > most:
-        return 0
+    if not is_written(word) or len(word) > len(str(most)) or int(word) > most:
+        return None
     return int(word)
